@@ -40,10 +40,16 @@ def most(pair):
     return (greater - 1) // lesser
 
 
+def is_taking(pair, times):
+    """Whether this is a taking of the pair."""
+    # Asked for first, so that what is no pair is told before what is no taking.
+    highest = most(pair)
+    return is_above_zero(times) and times <= highest
+
+
 def taken(pair, times):
     """The pair behind a taking, each number in its place."""
-    highest = most(pair)
-    if not is_above_zero(times) or times > highest:
+    if not is_taking(pair, times):
         raise BadTaking("a taking is a whole number from 1 to the most times of its pair")
     first, second = pair
     if first > second:
@@ -61,3 +67,23 @@ def worth(pair):
     if left * greater < lesser * lesser:
         return times - 1
     return times
+
+
+def taking_to_worth(pair, wanted):
+    """A taking behind which the pair has this worth, any one below its own."""
+    lesser, greater = lesser_and_greater(pair)
+    whole = greater // lesser
+    # What is left of the greater number holds the lesser one as often as it is worth,
+    # or once more; or it is below the lesser one, and then the most was taken.
+    for times in (whole - wanted, whole - wanted - 1):
+        if is_taking(pair, times) and worth(taken(pair, times)) == wanted:
+            return times
+    return most(pair)
+
+
+def all_together(worths):
+    """The worths bit by bit: a bit is set where an odd count of them has it."""
+    together = 0
+    for own in worths:
+        together = together ^ own
+    return together

@@ -5,51 +5,10 @@ import unittest
 from fractions import Fraction
 from math import floor
 
-from at_once import at_once
+from helper import GREAT, NO_NUMBERS, NO_PAIRS, at_once, fibonacci, small_pairs, tried_takings
 from manytimes import pairs
 from manytimes.errors import BadPair, BadTaking, TimesError
-from manytimes.pairs import most, taken, worth
-
-GREAT = 10 ** 3000
-
-NO_PAIRS = (
-    None, True, False, 0, 1, 6, -6, 2.5, GREAT, "", "62", "6,2", b"62", object(), int, most, ..., 1j,
-    [], [6, 2], [6], [(6, 2)], {}, {6: 2}, {6, 2}, frozenset((6, 2)), range(1, 3), iter((6, 2)), bytearray(b"62"),
-    (), (6,), (6, 2, 1), (6, 2, 2, 2), ((6, 2),), ((6, 2), (6, 2)), (6, (2,)), ((6,), 2), ([6], 2), (6, [2]),
-    (0, 2), (6, 0), (0, 0), (-6, 2), (6, -2), (-6, -2), (-1, -1), (GREAT, 0), (0, GREAT), (-GREAT, 2), (GREAT, -1),
-    (True, 2), (6, True), (True, True), (False, 2), (6, False), (1, True), (True, 1),
-    ("6", 2), (6, "2"), ("6", "2"), (b"6", 2), (6, b"2"), (None, 2), (6, None), (None, None),
-    (6.0, 2), (6, 2.0), (6.0, 2.0), (Fraction(6), 2), (6, Fraction(2)), (float("inf"), 2), (6, float("nan")),
-    (6, 2j), ({}, 2), (6, {}), (6, object()),
-)
-
-NO_NUMBERS = (
-    None, True, False, "1", "", b"1", 1.0, 1.5, float("nan"), float("inf"), Fraction(1), 1j, [], [1], (), (1,),
-    {}, {1}, {1: 1}, object(), int, most, ..., range(1, 2),
-)
-
-
-def fibonacci(count):
-    """The number at this place of 1, 1, 2, 3, 5 .. and the one behind it."""
-    here, behind = 1, 1
-    for _ in range(count):
-        here, behind = behind, here + behind
-    return here, behind
-
-
-def tried_takings(pair):
-    """All pairs behind a taking, by taking the lesser number away until nothing would be left."""
-    first, second = pair
-    found = []
-    if first > second:
-        while first - second > 0:
-            first -= second
-            found.append((first, second))
-    elif second > first:
-        while second - first > 0:
-            second -= first
-            found.append((first, second))
-    return found
+from manytimes.pairs import all_together, most, taken, taking_to_worth, worth
 
 
 def tried_worth(pair, known):
@@ -61,10 +20,6 @@ def tried_worth(pair, known):
             least += 1
         known[pair] = least
     return known[pair]
-
-
-def small_pairs(limit):
-    return [(first, second) for first in range(1, limit + 1) for second in range(1, limit + 1)]
 
 
 class MostTest(unittest.TestCase):
@@ -246,6 +201,31 @@ class WorthTest(unittest.TestCase):
             self.assertEqual(worth((10 ** 100000, 1)), 10 ** 100000 - 1)
             self.assertEqual(worth((GREAT * 5 + 1, 5)), GREAT)
             self.assertEqual(worth((GREAT * 5, 5)), GREAT - 1)
+
+
+class TakingToWorthTest(unittest.TestCase):
+    def test_all_worths_below_that_of_all_small_pairs(self):
+        for pair in small_pairs(50):
+            for wanted in range(worth(pair)):
+                self.assertEqual(worth(taken(pair, taking_to_worth(pair, wanted))), wanted, (pair, wanted))
+
+    def test_very_great_numbers(self):
+        with at_once():
+            for pair in ((GREAT, 1), (1, GREAT), (GREAT, 7), (5 * GREAT + 3, 5), (GREAT * GREAT + 1, GREAT)):
+                own = worth(pair)
+                for wanted in (0, 1, 2, 3, own // 2, own - 3, own - 2, own - 1):
+                    self.assertEqual(worth(taken(pair, taking_to_worth(pair, wanted))), wanted)
+
+
+class AllTogetherTest(unittest.TestCase):
+    def test_a_bit_is_set_where_an_odd_count_has_it(self):
+        for worths, told in (
+            ([], 0), ([0], 0), ([5], 5), ([5, 5], 0), ([5, 5, 5], 5), ([1, 2, 3], 0), ([1, 2, 4], 7), ([8, 1, 2], 11),
+            ([GREAT, 1, GREAT], 1), ([GREAT, GREAT], 0),
+        ):
+            before = list(worths)
+            self.assertEqual(all_together(worths), told)
+            self.assertEqual(worths, before)
 
 
 class BadPairTest(unittest.TestCase):
